@@ -259,9 +259,13 @@ func with(t *testing.T, data []string, tokens ...string) *game {
 	return g
 }
 
-// wantOut: what a call answers, one by one, in order.
-func (g *game) wantOut(what string, a answer, want []api.Done) {
+// answers makes a call, looks what it answers, one by one, in order, and goes on with what it made of the engine.
+func (g *game) answers(what string, f func(e api.Engine) (api.Engine, []api.Done), want []api.Done) {
 	g.t.Helper()
+	a := call(g.t, what, g.e, func(e api.Engine) answer {
+		k, out := f(e)
+		return answer{e: k, out: out}
+	})
 	if !slices.EqualFunc(a.out, want, alikeDones) {
 		g.t.Errorf("%s: %+v; want %+v", what, a.out, want)
 	}
@@ -287,29 +291,17 @@ func (g *game) begin(token string, id int, want api.Errno) {
 
 func (g *game) ask(id int, op api.Op, want ...api.Done) {
 	g.t.Helper()
-	what := fmt.Sprintf("Ask(%d, %+v)", id, op)
-	g.wantOut(what, call(g.t, what, g.e, func(e api.Engine) answer {
-		k, out := Ask(e, id, op)
-		return answer{e: k, out: out}
-	}), want)
+	g.answers(fmt.Sprintf("Ask(%d, %+v)", id, op), func(e api.Engine) (api.Engine, []api.Done) { return Ask(e, id, op) }, want)
 }
 
 func (g *game) leave(id int, want ...api.Done) {
 	g.t.Helper()
-	what := fmt.Sprintf("Leave(%d)", id)
-	g.wantOut(what, call(g.t, what, g.e, func(e api.Engine) answer {
-		k, out := Leave(e, id)
-		return answer{e: k, out: out}
-	}), want)
+	g.answers(fmt.Sprintf("Leave(%d)", id), func(e api.Engine) (api.Engine, []api.Done) { return Leave(e, id) }, want)
 }
 
 func (g *game) tick(now uint64, want ...api.Done) {
 	g.t.Helper()
-	what := fmt.Sprintf("Tick(%d)", now)
-	g.wantOut(what, call(g.t, what, g.e, func(e api.Engine) answer {
-		k, out := Tick(e, now)
-		return answer{e: k, out: out}
-	}), want)
+	g.answers(fmt.Sprintf("Tick(%d)", now), func(e api.Engine) (api.Engine, []api.Done) { return Tick(e, now) }, want)
 }
 
 // arm sets the disk's fuse.
